@@ -2,12 +2,13 @@ package mark
 
 import (
 	"casement/api"
+	"casement/scan"
 	"casement/source"
 )
 
 // readTag reads a tag from its name on up to and with its `>`. Its states are labels. False, if the text ends ahead of the `>`: then c stands at the end.
 func readTag(c *source.Cursor[rune]) (Token, bool) {
-	tag := Token{Kind: Open, Name: small(take(c, endsTagName))}
+	tag := Token{Kind: Open, Name: scan.Small(scan.Take(c, endsTagName))}
 	var attr api.Attr
 	var r rune
 	var more, slash bool // slash: the rune that was just gone over is a `/` of no value
@@ -19,7 +20,7 @@ between:
 		return Token{}, false
 	case r == '>':
 		goto end
-	case r != '/' && !blank(r):
+	case r != '/' && !scan.Blank(r):
 		goto name
 	}
 	slash = r == '/'
@@ -29,15 +30,15 @@ between:
 name:
 	slash = false
 	attr = api.Attr{Name: attrName(c)}
-	goBlanks(c)
-	if follows(c, "=") {
+	scan.Blanks(c)
+	if scan.Follows(c, "=") {
 		goto value
 	}
 	goto keep
 
 value:
 	c.Next()
-	goBlanks(c)
+	scan.Blanks(c)
 	attr.Value = Unescape(attrValue(c))
 	goto keep
 
@@ -56,24 +57,19 @@ end:
 // attrName reads an attribute's name. Its first rune is of it even if it is a `=`.
 func attrName(c *source.Cursor[rune]) string {
 	first, _ := c.Next()
-	return small(string(first) + take(c, endsAttrName))
+	return scan.Small(string(first) + scan.Take(c, endsAttrName))
 }
 
 // attrValue reads an attribute's value as it stands, and goes over the quotes around it. A quote that does not end takes all the rest, so there is no tag then.
 func attrValue(c *source.Cursor[rune]) string {
 	quote, _ := c.Peek(0)
 	if quote != '"' && quote != '\'' {
-		return take(c, endsPlainValue)
+		return scan.Take(c, endsPlainValue)
 	}
 	c.Next()
-	value := take(c, func(r rune) bool { return r == quote })
+	value := scan.Take(c, func(r rune) bool { return r == quote })
 	c.Next()
 	return value
-}
-
-// goBlanks goes over blanks.
-func goBlanks(c *source.Cursor[rune]) {
-	take(c, func(r rune) bool { return !blank(r) })
 }
 
 // has tells if one of attrs has that name.
@@ -86,6 +82,6 @@ func has(attrs []api.Attr, name string) bool {
 	return false
 }
 
-func endsTagName(r rune) bool    { return blank(r) || r == '/' || r == '>' }
+func endsTagName(r rune) bool    { return scan.Blank(r) || r == '/' || r == '>' }
 func endsAttrName(r rune) bool   { return endsTagName(r) || r == '=' }
-func endsPlainValue(r rune) bool { return blank(r) || r == '>' }
+func endsPlainValue(r rune) bool { return scan.Blank(r) || r == '>' }
